@@ -92,26 +92,21 @@ func isXMLChar(number int) bool {
 	return number >= 65536 && number <= greatestChar
 }
 
+func isAnyChar(int) bool { return true }
+
 // Check tells whether a text is UTF-8; with an error the place.
-func Check(s string) (api.Errno, int) {
-	for at := 0; at < len(s); {
-		_, size := sequence(s[at:])
-		if size == 0 {
-			return api.ErrUTF8, at
-		}
-		at += size
-	}
-	return api.OK, 0
-}
+func Check(s string) (api.Errno, int) { return firstFault(s, isAnyChar) }
 
 // Chars tells whether a text is UTF-8 and has characters of XML alone; with an error the place.
-func Chars(s string) (api.Errno, int) {
+func Chars(s string) (api.Errno, int) { return firstFault(s, isXMLChar) }
+
+func firstFault(s string, allowed func(number int) bool) (api.Errno, int) {
 	for at := 0; at < len(s); {
 		number, size := sequence(s[at:])
 		if size == 0 {
 			return api.ErrUTF8, at
 		}
-		if !isXMLChar(number) {
+		if !allowed(number) {
 			return api.ErrXMLChar, at
 		}
 		at += size
